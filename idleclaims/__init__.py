@@ -1,0 +1,1 @@
+"""Idleclaims: placements in which only claims that stand up themselves are heard."""

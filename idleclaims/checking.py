@@ -1,0 +1,26 @@
+"""The refusals of parameters that several modules share."""
+
+from idleclaims.errors import Crowded, NotPlain, NotUsable
+from idleclaims.kinds import is_dealing
+from idleclaims.seating import claims_in
+
+
+def need(fine, name):
+    """Refuses the parameter with this name unless it is fine."""
+    if not fine:
+        raise NotUsable(name, -1)
+
+
+def need_plain(book, plain):
+    """Refuses a parameter plain that is no dealing that is plain in the book."""
+    need(is_dealing(book, plain), "plain")
+    claims = claims_in(book, plain)
+    if claims:
+        raise NotPlain(claims[0])
+
+
+def need_one_seat(book):
+    """Refuses a book in which a school has more seats than one."""
+    for school, many in enumerate(book[2]):
+        if many > 1:
+            raise Crowded(school)
