@@ -50,7 +50,6 @@ def small_books():
     """Documented books, edges, rare books and books by chance, each with at most three hundred dealings."""
     random = Random(20)
     found = list(DOCUMENT + EDGES + FOUND)
-    found.append(tower(2))
     while len(found) < 260:
         pupils, schools = random.randint(1, 5), random.randint(1, 4)
         book = book_of(random, pupils, schools, random.choice((50, 75, 95)), random.choice((1, 1, 2, 3)))

@@ -71,6 +71,16 @@ class KindsTest(Case):
         self.judged(kinds.is_pairs, True, empty, ())
         self.judged(kinds.is_pair, False, empty, (0, 0))
 
+    def test_large_and_deep_things(self):
+        deep = ()
+        for _ in range(30):
+            deep = (deep,)
+        for thing in (deep, (deep,) * 3, ((0, 0),) * 2400, (0,) * 5000, "x" * 4000, list(range(5000))):
+            for call in (kinds.is_integer, kinds.is_number, kinds.is_book):
+                self.judged(call, False, thing)
+            for call in (kinds.is_pair, kinds.is_pairs, kinds.is_dealing):
+                self.judged(call, False, samples.FOUR, thing)
+
     def test_pairs_of_all_small_books(self):
         for book in samples.small_books():
             pairs = truth.pairs(book)

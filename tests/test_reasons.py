@@ -58,6 +58,33 @@ class ReasonsTest(Case):
         else:
             self.not_usable(name, call, book, plain, marks)
 
+    def test_right_marks_strike_no_more_than_told_ones(self):
+        random = Random(18)
+        for book in samples.small_books()[::3]:
+            many = len(book[1])
+            for plain in truth.plains(book):
+                rising, falling = truth.rise_arrows(book, plain), truth.fall_arrows(book, plain)
+                up = set(struck_up(book, plain, truth.told_heights(many, rising)))
+                down = set(struck_down(book, plain, truth.told_heights(many, falling)))
+                rank = set(struck_rank(book, plain, truth.told_ranks(book, plain)))
+                for marks in random.sample(list(product(range(3), repeat=many)), min(9, 3 ** many)):
+                    if truth.are_heights(many, rising, marks):
+                        self.assertLessEqual(set(struck_up(book, plain, marks)), up)
+                    if truth.are_heights(many, falling, marks):
+                        self.assertLessEqual(set(struck_down(book, plain, marks)), down)
+                    if truth.are_ranks(book, plain, marks):
+                        self.assertLessEqual(set(struck_rank(book, plain, marks)), rank)
+
+    def test_reasons_that_exclude_one_another(self):
+        for book in samples.small_books():
+            many = len(book[1])
+            for plain in truth.plains(book):
+                cold = set(struck_cold(book, plain))
+                up = set(struck_up(book, plain, truth.told_heights(many, truth.rise_arrows(book, plain))))
+                down = set(struck_down(book, plain, truth.told_heights(many, truth.fall_arrows(book, plain))))
+                down.update(struck_rank(book, plain, truth.told_ranks(book, plain)))
+                self.assertFalse(cold & up or cold & down or up & down)
+
     def test_what_is_struck_is_loose(self):
         for book in samples.small_books():
             many = len(book[1])

@@ -81,6 +81,18 @@ class StepsTest(Case):
             left = self.accepted(book, steps_of(book))
             self.same(left, truth.struck(book, truth.idle_pairs(book)), book)
 
+    def test_some_of_the_rows(self):
+        for book in samples.small_books()[::2]:
+            steps = steps_of(book)
+            for many in range(len(steps) + 1):
+                left = self.accepted(book, steps[:many])
+                for plain in truth.plains(left):
+                    won, moves = truth.hearing(book)[plain]
+                    self.assertFalse(won)
+                    self.assertLessEqual(moves, 2 * many)
+            parted = tuple(row[:3] + ((pair,),) for row in steps for pair in row[3])
+            self.same(self.accepted(book, parted), self.accepted(book, steps))
+
     def test_steps_to_each_idle_pair(self):
         for book in samples.small_books():
             for pair in truth.idle_pairs(book):

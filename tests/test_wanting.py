@@ -39,6 +39,16 @@ class WantingTest(Case):
                 self.same(claims_against(book, dealing), claims)
                 self.same(is_plain(book, dealing), claims == ())
 
+    def test_side_by_side(self):
+        # A dealing of books side by side is plain exactly if both its parts are.
+        for book, other in ((samples.ODD, samples.TWO), (samples.NARROW, samples.ODD), (samples.TWO, samples.WIDE)):
+            both = samples.beside(book, other)
+            for one in truth.dealings(book):
+                for two in truth.dealings(other):
+                    on = tuple((a + len(book[0]), b + len(book[1])) for a, b in two)
+                    expected = truth.claims(book, one) == () == truth.claims(other, two)
+                    self.same(is_plain(both, one + on), expected)
+
     def test_without_pairs(self):
         for book in samples.EDGES[:4]:
             self.same(claims_against(book, ()), ())

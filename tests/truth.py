@@ -98,6 +98,13 @@ def bottom(book):
     return found[0]
 
 
+def union(masks):
+    found = 0
+    for mask in masks:
+        found |= mask
+    return found
+
+
 @lru_cache(maxsize=None)
 def hearing(book, waived=()):
     """For each dealing (won, moves): the hearing played backwards, waived pairs not counting in naming."""
@@ -110,12 +117,13 @@ def hearing(book, waived=()):
     told.update({m: (False, 0) for m in newly})
     while newly:
         moves += 1
-        lost_before = [m for m in newly if told[m] == (False, moves - 1)]
+        # A dealing of some may be named exactly if a pair of theirs claims.
+        lost_before = union(has[m] for m in newly if told[m] == (False, moves - 1))
+        not_won = union(has[m] for m in dealings(book) if not told.get(m, (False, 0))[0])
         open_ones = [m for m in dealings(book) if m not in told]
-        won = [m for m in open_ones if any(has[n] & against[m] for n in lost_before)]
-        not_won = [m for m in dealings(book) if not told.get(m, (False, 0))[0]]
-        lost = [m for m in open_ones if not any(has[n] & against[m] for n in not_won)]
-        assert not [m for m in won if m in lost]
+        won = [m for m in open_ones if against[m] & lost_before]
+        lost = [m for m in open_ones if not against[m] & not_won]
+        assert not set(won).intersection(lost)
         told.update({m: (True, moves) for m in won})
         told.update({m: (False, moves) for m in lost})
         newly = won + lost
