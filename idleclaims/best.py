@@ -1,13 +1,11 @@
 """The best and the worst one of the rightful dealings."""
 
-from idleclaims.arrows import rise_arrows_in
 from idleclaims.asking import pupils_deal, refused_asked, schools_deal
 from idleclaims.bookparts import struck_book
 from idleclaims.checking import need
-from idleclaims.heights import heights_of
 from idleclaims.kinds import is_pupil
 from idleclaims.lastbook import last_book
-from idleclaims.reasons import up_in
+from idleclaims.reasons import struck_in, told_marks
 from idleclaims.seating import Seating
 
 
@@ -34,7 +32,7 @@ def best_by_rises(book):
     left = book
     while refused_asked(left):
         seating = Seating(left, pupils_deal(left))
-        struck = up_in(seating, heights_of(left, rise_arrows_in(seating)))
+        struck = struck_in(seating, "up", told_marks(seating, "up"))
         rounds.append(struck)
         left = struck_book(left, struck)
     return (tuple(rounds), pupils_deal(left))

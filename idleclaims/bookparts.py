@@ -31,3 +31,24 @@ def likings(book, dealing):
 def dealing_with(places):
     """The dealing in which each pupil has its place of this sequence, a school or None."""
     return tuple([(pupil, school) for pupil, school in enumerate(places) if school is not None])
+
+
+def better_of(book, one, other):
+    """Each pupil has the one of its two places that it likes more."""
+    return _chosen(one, other, [here <= there for here, there in zip(likings(book, one), likings(book, other))])
+
+
+def worse_of(book, one, other):
+    """Each pupil has the one of its two places that it likes less."""
+    return _chosen(one, other, [here > there for here, there in zip(likings(book, one), likings(book, other))])
+
+
+def with_at(values, at, value):
+    """The tuple with another value at this place."""
+    return values[:at] + (value,) + values[at + 1:]
+
+
+def _chosen(one, other, firsts):
+    """For each pupil its place in one where firsts says so, else that in other."""
+    here, there = dict(one), dict(other)
+    return dealing_with([here.get(pupil) if first else there.get(pupil) for pupil, first in enumerate(firsts)])

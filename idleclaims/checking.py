@@ -11,9 +11,9 @@ def need(fine, name):
         raise NotUsable(name, -1)
 
 
-def need_plain(book, plain):
-    """Refuses a parameter plain that is no dealing that is plain in the book."""
-    need(is_dealing(book, plain), "plain")
+def need_plain(book, plain, name="plain"):
+    """Refuses a parameter, mostly called plain, that is no dealing that is plain in the book."""
+    need(is_dealing(book, plain), name)
     claims = claims_in(book, plain)
     if claims:
         raise NotPlain(claims[0])
@@ -24,3 +24,8 @@ def need_one_seat(book):
     for school, many in enumerate(book[2]):
         if many > 1:
             raise Crowded(school)
+
+
+def is_plain_dealing(book, thing):
+    """Is thing a dealing of the book that is plain in it?"""
+    return is_dealing(book, thing) and claims_in(book, thing) == ()

@@ -1,7 +1,7 @@
 """Books with lists in another sequence, or with idle pairs left out, that keep the rightful dealings."""
 
 from idleclaims.best import best_deal
-from idleclaims.bookparts import listed_pairs, struck_book
+from idleclaims.bookparts import listed_pairs, struck_book, with_at
 from idleclaims.checking import need
 from idleclaims.kinds import is_below, is_book, is_number, is_pupil, is_school, is_set_below
 from idleclaims.lastbook import rightful_pairs
@@ -13,7 +13,7 @@ def moved_wish(book, pupil, school, place):
     wish = book[0][pupil]
     need(is_number(school) and school in wish, "school")
     need(is_below(place, len(wish)), "place")
-    return (_with_at(book[0], pupil, _put(wish, school, place)), book[1], book[2])
+    return (with_at(book[0], pupil, _put(wish, school, place)), book[1], book[2])
 
 
 def moved_roll(book, school, pupil, place):
@@ -22,7 +22,7 @@ def moved_roll(book, school, pupil, place):
     roll = book[1][school]
     need(is_number(pupil) and pupil in roll, "pupil")
     need(is_below(place, len(roll)), "place")
-    return (book[0], _with_at(book[1], school, _put(roll, pupil, place)), book[2])
+    return (book[0], with_at(book[1], school, _put(roll, pupil, place)), book[2])
 
 
 def is_lowered(book, thing):
@@ -42,7 +42,7 @@ def best_first(book, pupils):
     wishes = book[0]
     for pupil, school in best_deal(book):
         if pupil in pupils:
-            wishes = _with_at(wishes, pupil, _put(wishes[pupil], school, 0))
+            wishes = with_at(wishes, pupil, _put(wishes[pupil], school, 0))
     return (wishes, book[1], book[2])
 
 
@@ -62,10 +62,6 @@ def _put(listed, entry, place):
     """The list with this entry of it at this place; the others keep their sequence."""
     others = tuple([other for other in listed if other != entry])
     return others[:place] + (entry,) + others[place:]
-
-
-def _with_at(lists, at, listed):
-    return lists[:at] + (listed,) + lists[at + 1:]
 
 
 def _stays_ahead(old, new, entry):

@@ -21,15 +21,20 @@ def is_event(thing):
     if not isinstance(thing, tuple) or not thing:
         return False
     word, *numbers = thing
-    if not isinstance(word, str) or word not in EVENTS:
+    least = least_numbers(word)
+    if least is None or len(numbers) != len(least):
         return False
-    least = EVENTS[word]
-    return len(numbers) == len(least) and all(_is_from(number, low) for number, low in zip(numbers, least))
+    return all(_is_from(number, low) for number, low in zip(numbers, least))
 
 
 def is_log(thing):
     """Is thing a tuple of events?"""
     return isinstance(thing, tuple) and all(is_event(event) for event in thing)
+
+
+def least_numbers(thing):
+    """The least numbers that may stand behind this word; None if thing is no word of an event."""
+    return EVENTS.get(thing) if isinstance(thing, str) else None
 
 
 def _is_from(thing, low):

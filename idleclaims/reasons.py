@@ -3,8 +3,8 @@
 from idleclaims.arrows import fall_arrows_in, falls_in, rise_arrows_in, rises_in
 from idleclaims.bookparts import listed_pairs
 from idleclaims.checking import need, need_plain
-from idleclaims.heights import are_heights
-from idleclaims.ranks import are_ranks
+from idleclaims.heights import are_heights, heights_of
+from idleclaims.ranks import are_ranks, ranks_in
 from idleclaims.seating import Seating
 
 
@@ -36,6 +36,35 @@ def struck_rank(book, plain, ranks):
     seating = Seating(book, plain)
     need(are_ranks(seating, ranks), "ranks")
     return rank_in(seating, ranks)
+
+
+def are_marks(seating, reason, thing):
+    """Is thing marks of this reason at this plain dealing?"""
+    if reason == "up":
+        return are_heights(seating.book, rise_arrows_in(seating), thing)
+    if reason == "down":
+        return are_heights(seating.book, fall_arrows_in(seating), thing)
+    if reason == "rank":
+        return are_ranks(seating, thing)
+    return thing == ()
+
+
+def told_marks(seating, reason):
+    """The told heights or the told ranks of this reason; "cold" has no marks."""
+    if reason == "up":
+        return heights_of(seating.book, rise_arrows_in(seating))
+    if reason == "down":
+        return heights_of(seating.book, fall_arrows_in(seating))
+    return ranks_in(seating) if reason == "rank" else ()
+
+
+def struck_in(seating, reason, marks):
+    """The set of the pairs that the reason strikes with these marks."""
+    if reason == "up":
+        return up_in(seating, marks)
+    if reason == "down":
+        return down_in(seating, marks)
+    return rank_in(seating, marks) if reason == "rank" else cold_in(seating)
 
 
 def cold_in(seating):

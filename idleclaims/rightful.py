@@ -1,10 +1,9 @@
 """The rightful dealings of a book: those that are plain in its last book."""
 
-from idleclaims.checking import need
+from idleclaims.checking import is_plain_dealing, need
 from idleclaims.kinds import is_dealing, is_pair
 from idleclaims.ladder import ladder_of
 from idleclaims.lastbook import last_book
-from idleclaims.seating import claims_in
 from idleclaims.showing import plain_with
 from idleclaims.walks import all_plain, how_many_plain
 
@@ -12,14 +11,14 @@ from idleclaims.walks import all_plain, how_many_plain
 def is_rightful(book, dealing):
     """Is the dealing rightful?"""
     need(is_dealing(book, dealing), "dealing")
-    return _is_plain_in(last_book(book), dealing)
+    return is_plain_dealing(last_book(book), dealing)
 
 
 def rightful_level(book, dealing):
     """The number of the first level at which the dealing is plain; None if it is not rightful."""
     need(is_dealing(book, dealing), "dealing")
     for k, level in enumerate(ladder_of(book)):
-        if _is_plain_in(level, dealing):
+        if is_plain_dealing(level, dealing):
             return k
     return None
 
@@ -39,7 +38,3 @@ def rightful_with(book, pair):
     need(is_pair(book, pair), "pair")
     last = last_book(book)
     return plain_with(last, pair) if is_pair(last, pair) else None
-
-
-def _is_plain_in(level, dealing):
-    return is_dealing(level, dealing) and claims_in(level, dealing) == ()

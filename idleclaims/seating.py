@@ -8,6 +8,7 @@ class Seating:
 
     def __init__(self, book, dealing):
         self.book = book
+        self.dealing = dealing
         self.wishes, self.rolls, self.seats = book
         self.place_map = dict(dealing)
         self.held_lists = [[] for _ in self.rolls]

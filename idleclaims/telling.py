@@ -1,9 +1,6 @@
 """The told pairs of a book, as rows that strike them one after the other."""
 
-from idleclaims.arrows import fall_arrows_in, rise_arrows_in
-from idleclaims.heights import heights_of
-from idleclaims.ranks import ranks_in
-from idleclaims.reasons import cold_in, down_in, rank_in, up_in
+from idleclaims.reasons import struck_in, told_marks
 from idleclaims.seating import Seating
 from idleclaims.walks import walk_of
 
@@ -33,13 +30,16 @@ def pairs_in(rows):
 def _struck_rows(book):
     """What each reason strikes; "cold" strikes along one walk what it strikes at all plain dealings."""
     walk = walk_of(book)
-    rows = [("cold", dealing, (), cold_in(Seating(book, dealing))) for dealing in walk]
-    first, last = walk[0], walk[len(walk) - 1]
-    above, below = Seating(book, first), Seating(book, last)
-    heights = heights_of(book, rise_arrows_in(above))
-    rows.append(("up", first, heights, up_in(above, heights)))
-    heights = heights_of(book, fall_arrows_in(below))
-    rows.append(("down", last, heights, down_in(below, heights)))
-    ranks = ranks_in(below)
-    rows.append(("rank", last, ranks, rank_in(below, ranks)))
-    return rows
+    last = len(walk) - 1
+    rows = [_struck_row(book, "cold", dealing) for dealing in walk]
+    return rows + [
+        _struck_row(book, "up", walk[0]),
+        _struck_row(book, "down", walk[last]),
+        _struck_row(book, "rank", walk[last]),
+    ]
+
+
+def _struck_row(book, reason, dealing):
+    seating = Seating(book, dealing)
+    marks = told_marks(seating, reason)
+    return (reason, dealing, marks, struck_in(seating, reason, marks))

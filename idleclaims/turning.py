@@ -45,7 +45,7 @@ def turnings_in(seating):
 def turned_in(seating, turning):
     """The dealing to which this turning leads from this plain dealing."""
     moves = {pupil: seating.next_for(pupil) for pupil in turning}
-    return tuple([(pupil, moves.get(pupil, school)) for pupil, school in sorted(seating.place_map.items())])
+    return tuple([(pupil, moves.get(pupil, school)) for pupil, school in seating.dealing])
 
 
 def turned_from(book, plain):

@@ -9,7 +9,11 @@ from idleclaims.turning import turned_from
 
 def walk_of(book):
     """The walk that turns each time along the turning with the least pupil."""
-    here = pupils_deal(book)
+    return walk_from(book, pupils_deal(book))
+
+
+def walk_from(book, here):
+    """The dealings that the turnings with the least pupil make from this plain one on."""
     walk = [here]
     following = turned_from(book, here)
     while following:

@@ -4,7 +4,7 @@ import inspect
 import unittest
 from copy import deepcopy
 
-from idleclaims.errors import NotPlain, NotUsable
+from idleclaims.errors import InvalidPaper, NotPlain, NotUsable
 from tests import truth
 
 
@@ -42,10 +42,54 @@ class Case(unittest.TestCase):
         self.assertEqual(list(inspect.signature(spec.call).parameters), names, spec.call)
         self.assertEqual(spec.call.__module__, "idleclaims." + spec.module)
         by_position = spec.call(*spec.right.values())
-        self.same(spec.call(**spec.right), by_position, spec.call)
+        self.alike(spec.call(**spec.right), by_position, spec.call)
         for at, name in enumerate(names):
             for value, error, fields in spec.wrong.get(name, ()):
                 self.refused_first(spec, names, at, value, error, fields)
+
+    def alike(self, one, other, note):
+        """The same value; of objects of the package only the class is looked at."""
+        if type(one).__module__.startswith("idleclaims."):
+            self.assertIs(type(one), type(other), note)
+        else:
+            self.same(one, other, note)
+
+    def hold_class(self, module, made, right, *wrong):
+        """All that holds for the parameters of the class, when an object is made."""
+        names = list(right)
+        self.assertEqual(list(inspect.signature(made).parameters), names, made)
+        self.assertEqual(made.__module__, "idleclaims." + module)
+        self.assertIs(type(made(*right.values())), made)
+        self.assertIs(type(made(**right)), made)
+        spec = Spec(module, made, right, *wrong)
+        for at, name in enumerate(names):
+            for value, error, fields in spec.wrong.get(name, ()):
+                self.refused_first(spec, names, at, value, error, fields)
+
+    def hold_method(self, make, name, right, *wrong):
+        """All that holds for the parameters of this method of the objects that make() gives."""
+        self.assertIn(name, vars(type(make())), "defined in the class itself")
+        call = getattr(make(), name)
+        names = list(right)
+        self.assertEqual(list(inspect.signature(call).parameters), names, call)
+        by_name, by_position = call(**right), getattr(make(), name)(*right.values())
+        self.alike(by_name, by_position, call)
+        spec = Spec(None, getattr(make(), name), right, *wrong)
+        for at, parameter in enumerate(names):
+            for value, error, fields in spec.wrong.get(parameter, ()):
+                self.refused_first(spec, names, at, value, error, fields)
+
+    def paper_refused(self, word, at, call, *args):
+        """The checker must raise InvalidPaper with this word and this place."""
+        self.refuses(InvalidPaper, {"word": word, "at": at}, call, *args)
+
+    def judged_as(self, entries, call, *args):
+        """The checker must raise InvalidPaper for the first one of these entries; returns what it returns without."""
+        first = next(iter(entries), None)
+        if first is None:
+            return call(*args)
+        self.paper_refused(*first, call, *args)
+        return None
 
     def refused_first(self, spec, names, at, value, error, fields):
         """The wrong value is refused, also if all later parameters are wrong, too."""
@@ -157,4 +201,33 @@ def no_books():
     found += [(wishes, ((1, 0), listed), seats) for listed in wrong]
     found += [(wishes, ((True, 0), (0,)), seats), (wishes, ((1, 0), (0, 1)), seats), (wishes, ((1, 0, 1), (0,)), seats)]
     found += [(wishes + ((0,),), rolls, seats), (wishes + ((),), ((2, 1, 0), (0,)), seats), (wishes[:1], rolls, seats)]
+    return found
+
+
+JUNK = (None, True, False, 0, 1, 2, 3, -1, 10 ** 59, "", "0", "01", (), (0,), (0, 1), ((0, 1),), [], [0])
+
+
+def mutated(value, random):
+    """The value changed at one place by chance; for tuples mostly further inside."""
+    if type(value) is not tuple or not value or random.random() < 0.1:
+        return random.choice(JUNK + ((list(value),) if type(value) is tuple else (str(value), (value,))))
+    at, other = random.randrange(len(value)), random.randrange(len(value))
+    way = random.random()
+    if way < 0.7:
+        return value[:at] + (mutated(value[at], random),) + value[at + 1:]
+    if way < 0.8:
+        return value[:at] + value[at + 1:]
+    if way < 0.9:
+        return value[:at] + (value[other],) + value[at:]
+    return value[:at] + (value[other],) + value[at + 1:]
+
+
+def mutations(value, random, many):
+    """The value changed by chance at one to three places, so many times."""
+    found = []
+    for _ in range(many):
+        changed = value
+        for _ in range(random.choice((1, 1, 2, 3))):
+            changed = mutated(changed, random)
+        found.append(changed)
     return found

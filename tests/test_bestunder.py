@@ -103,7 +103,7 @@ def struck_rows(book):
     left, gone = book, []
     while True:
         high, refused = truth.asked_by_pupils(left, range(len(left[0])))
-        low, refusing = truth.asked_by_schools(left, range(len(left[0])))
+        low, refusing = truth.asked_by_schools(left, range(len(left[1])))
         many = len(left[1])
         rising = truth.told_heights(many, truth.rise_arrows(left, high))
         falling = truth.told_heights(many, truth.fall_arrows(left, low))

@@ -1,4 +1,7 @@
-"""Point 11 on small books: G1, G2, G5, G6, G7, G8 and G10, the hearing being played out in the tests."""
+"""Point 11 on small books: G1 to G3 and G5 to G10, the hearing being played out in the tests.
+
+G4 stands in test_exchange, G11 beside the checkers of papers.
+"""
 
 from itertools import product
 from random import Random
@@ -10,12 +13,15 @@ from idleclaims.comparing import at_least, betters
 from idleclaims.ladder import ladder_of, level_of
 from idleclaims.lastbook import idle_pairs, last_book, rightful_pairs
 from idleclaims.loose import is_loose, loose_by_all, told_pairs
+from idleclaims.pairkinds import kinds_of
+from idleclaims.reasons import struck_cold
 from idleclaims.rightful import all_rightful
 from idleclaims.turning import turned, turnings_at
 from idleclaims.walks import all_plain, walk_of
 from tests import samples, truth
 from tests.support import Case
 from tests.test_bestunder import subsets, waivers
+from tests.test_walks import walks
 
 
 class HearingTest(Case):
@@ -53,6 +59,22 @@ class HearingTest(Case):
                 self.assertLessEqual(moves, 2 * levels[0] + won)
                 if max(book[2], default=1) == 1:
                     self.assertEqual(moves, 2 * levels[0] + won)
+
+
+class KindsTest(Case):
+    def test_g3_exactly_one_kind(self):
+        for book in samples.small_books() + samples.tiny_books()[::3]:
+            kinds = dict(zip(("plain", "rise", "fall", "cold"), kinds_of(book)))
+            self.same(sorted(pair for pairs in kinds.values() for pair in pairs), list(truth.pairs(book)))
+            self.same(kinds["rise"], truth.rises(book, truth.top(book)))
+            self.same(kinds["fall"], truth.falls(book, truth.bottom(book)))
+
+    def test_g3_any_one_walk(self):
+        for book in samples.small_books():
+            kinds = kinds_of(book)
+            for walk in walks(book, truth.top(book))[:6]:
+                self.assertEqual({pair for dealing in walk for pair in dealing}, set(kinds[0]))
+                self.assertEqual({pair for dealing in walk for pair in struck_cold(book, dealing)}, set(kinds[3]))
 
 
 class LastBookTest(Case):
