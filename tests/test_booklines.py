@@ -9,7 +9,7 @@ from tests.support import Case, no_dealings
 from tests.test_bookchecker import full_book
 
 NO_STRINGS = (None, 0, True, (), ("-",), [], ["-"], b"-")
-NO_NUMERALS = ("", "00", "01", "-1", "+1", "x", "1x", "1.0", "1_0", "a", "1" * 61, "0" * 60, "1-", ":", "'1'")
+NO_NUMERALS = ("", "00", "01", "-1", "+1", "x", "1x", "1.0", "1_0", "a", "1" * 61, "0" * 60, "1-", ":", "'1'", "\u0661")
 
 
 def lines_of(book):
@@ -83,7 +83,8 @@ class BookLinesTest(Case):
         self.wrong(("school 0 x1:", "school 0 x1:"), 1, 1)
 
     def test_seats(self):
-        for told in ("", "x", "x:", "1:", "x1", "1x:", "X1:", "xx1:", "x1::", ":", "x-1:", "x+1:", "x 1:", "x01:", "x00:"):
+        wrong = ("", "x", "x:", "1:", "x1", "1x:", "X1:", "xx1:", "x1::", ":", "x-1:", "x+1:", "x 1:", "x01:", "x00:")
+        for told in wrong + ("x11", "x1;"):
             self.wrong((f"school 0 {told}",), 0, 2)
         self.wrong(("school 0",), 0, 2)
         self.wrong(("pupil 0:", "school 0 x1:", "school 1"), 2, 2)

@@ -151,7 +151,8 @@ class DiariesTest(Case):
                 for _ in range(3):
                     diary = any_diary(book, side, random)
                     self.same(checker(book, diary), dealing)
-                    out = [(row[2], row[1]) if side == PUPILS else (row[0], row[2]) for row in diary if row[2] is not None]
+                    rows = [row for row in diary if row[2] is not None]
+                    out = [(row[2], row[1]) if side == PUPILS else (row[0], row[2]) for row in rows]
                     self.same(tuple(sorted(out)), refused)
                 own = MAKERS[side](book, tuple(range(len(book[side])))[::-1])
                 self.same(checker(book, thing=own), dealing)

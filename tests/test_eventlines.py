@@ -11,7 +11,8 @@ from tests.test_officeevents import EVENTS, FORMS
 LOG = (("pupil",), ("pair", 0, 1, 0, 2), ("seats", 3, 10 ** 59), ("waive", 12, 0))
 NO_EVENTS = (
     None, 0, True, "", "pupil", (), [], ["pupil"], ("pupil", 0), ("school",), ("school", 0), ("school", True),
-    ("seats", 0, 0), ("wish", 0, 0), ("Pupil",), ("waive", 0, -1), ("waive", "0", "1"), (("pupil",),), ("claim", 0, None)
+    ("seats", 0, 0), ("wish", 0, 0), ("Pupil",), ("waive", 0, -1), ("waive", "0", "1"), (("pupil",),),
+    ("claim", 0, None),
 )
 
 

@@ -121,17 +121,25 @@ class ExchangeKindsTest(Case):
         plain, dealing = ((0, 0),), ((0, 1), (1, 0))
         self.broken(samples.NARROW, plain, dealing, (False, False, True, False, False))
 
-    def test_the_fourth_condition_by_parts(self):
-        # School 0 is even and likes none less, but it is not full.
-        book = (((0, 1), (0, 1)), ((0, 1), (0, 1)), (2, 1))
-        self.broken(book, ((0, 0), (1, 0)), ((0, 1), (1, 0)), (True, True, True, False, True))
-        # All is full and even, but school 0 does not like pupil 1 more than pupil 0.
+    def test_schools_that_are_not_full(self):
+        # School 0 gets a riser and gives one, but pupil 1 falls from it to no place: it is not full any more.
+        expected = (True, False, False, False, False)
+        self.broken(samples.TWO, samples.BELOW, ((0, 1), (2, 0)), expected)
+        # The schools exchange pupils that they like more, but school 1 has a second seat.
+        book = (((0, 1), (1, 0)), ((1, 0), (0, 1)), (1, 2))
+        self.broken(book, ((0, 0), (1, 1)), ((0, 1), (1, 0)), (True, True, True, False, True))
+        self.broken(book[:2] + ((1, 1),), ((0, 0), (1, 1)), ((0, 1), (1, 0)), (True,) * 5)
+
+    def test_schools_that_like_them_less(self):
+        # All is full and even, but no school likes the pupil that it gets more than the one that it gives.
         book = (((0, 1), (1, 0)), ((0, 1), (1, 0)), (1, 1))
         self.broken(book, ((0, 0), (1, 1)), ((0, 1), (1, 0)), (True, True, True, False, True))
-        # It likes the one that it gets more, not the one that stays.
+        # Each likes it more, but school 0 does not like pupil 2, which stays, more than pupil 0.
         book = (((0, 1), (1, 0), (0,)), ((1, 0, 2), (0, 1)), (2, 1))
-        self.same(exchange_by_words(book, ((0, 0), (1, 1), (2, 0)), ((0, 1), (1, 0), (2, 0))), (True, True, True, False, True))
-        self.broken(book, ((0, 0), (1, 1), (2, 0)), ((0, 1), (1, 0), (2, 0)), (True, True, True, False, True))
+        plain, dealing = ((0, 0), (1, 1), (2, 0)), ((0, 1), (1, 0), (2, 0))
+        self.broken(book, plain, dealing, (True, True, True, False, True))
+        book = (book[0], ((1, 2, 0), (0, 1)), (2, 1))
+        self.broken(book, plain, dealing, (True,) * 5)
 
     def test_given_and_got(self):
         random = Random(45)

@@ -52,8 +52,8 @@ class PairPapersTest(Case):
         self.same(pair_judged(book, pair, thing)[0], (word, at))
 
     def test_examples(self):
-        result = [lets_pair_paper(FOUR, (2, 0), ("idle", WAY)), lets_pair_paper(FOUR, (0, 1), ("rightful", WAY[:1], BEST))]
-        self.same(result, ["idle", "rightful"])
+        self.same(lets_pair_paper(FOUR, (2, 0), ("idle", WAY)), "idle")
+        self.same(lets_pair_paper(FOUR, (0, 1), ("rightful", WAY[:1], BEST)), "rightful")
         self.wrong(FOUR, (0, 1), ("rightful", (), STILL), "held", -1)
 
     def test_papers_of_all_pairs(self):

@@ -8,6 +8,7 @@ from idleclaims.walks import walk_of
 from tests import samples, truth
 from tests.support import Case, unusable, with_bools
 
+KINDS = ("plain", "rise", "fall", "cold")
 METHODS = ("first", "last", "walk", "kinds", "here", "gone", "turnings")
 
 
@@ -85,6 +86,3 @@ class PlainTest(Case):
         for name in METHODS:
             self.hold_method(make, name, {})
         self.hold_method(lambda: Plain(samples.TWICE), "turn", {"turning": (2, 3)}, unusable("turning", (None, (3, 2))))
-
-
-KINDS = ("plain", "rise", "fall", "cold")

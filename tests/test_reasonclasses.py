@@ -41,8 +41,8 @@ class StandingTest(Case):
         return struck
 
     def test_example(self):
-        result = [Standing(samples.FOUR, samples.STILL).struck(), Standing(samples.SIDES, samples.STILL).reasons_for((0, 3))]
-        self.same(result, [((), ((3, 0),), (), ()), ("down", "rank")])
+        self.same(Standing(samples.FOUR, samples.STILL).struck(), ((), ((3, 0),), (), ()))
+        self.same(Standing(samples.SIDES, samples.STILL).reasons_for((0, 3)), ("down", "rank"))
 
     def test_small_books(self):
         found = dict.fromkeys(REASONS, 0)
