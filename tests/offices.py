@@ -68,7 +68,7 @@ class ByDealings:
 
 
 class ByAsking:
-    """The same for books of any size, by striking and asking; it does not tell what is quiet."""
+    """The same for books of any size, by striking, asking and turning."""
 
     def idle(self, book):
         return struck_rows(book)
@@ -80,7 +80,18 @@ class ByAsking:
         return truth.asked_by_pupils(truth.struck(book, waived), range(len(book[0])))[0]
 
     def is_quiet(self, before, book):
-        return None
+        return self.rightfuls(before) == self.rightfuls(book)
+
+    def rightfuls(self, book):
+        """All rightful dealings, by turnings in the last book."""
+        left = truth.struck(book, self.idle(book))
+        found, waiting = set(), [self.best(book)]
+        while waiting:
+            here = waiting.pop()
+            if here not in found:
+                found.add(here)
+                waiting += [truth.turned(left, here, turning) for turning in truth.turnings(left, here)]
+        return found
 
 
 class OfficeByWords:

@@ -33,8 +33,7 @@ class OfficeCase(Case):
         self.same(live.best_now(), words.ways.best(book))
         self.same(live.allowed_best(), words.ways.allowed_best(book, waived))
         quiet = len(words.stood) == 1 or words.ways.is_quiet(words.stood[-2][1], book)
-        if quiet is not None:
-            self.same(live.quiet_now(), quiet, words.stood[-2:])
+        self.same(live.quiet_now(), quiet, words.stood[-2:])
 
     def refused(self, call, words, event, *more):
         """The call must refuse the event, keep the very object, and change nothing but the tally."""
