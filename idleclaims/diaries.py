@@ -64,7 +64,7 @@ def _let_diary(book, asking, thing):
             raise InvalidPaper("asked", k)
         if not _is_refused(row[2], _refused_by(asking, asker)):
             raise InvalidPaper("refused", k)
-    if _first_ready(asking, range(len(book[asking.side]))) is not None:
+    if _first_ready(asking, list(range(len(book[asking.side])))) is not None:
         raise InvalidPaper("open", len(thing))
     return standing(asking)
 
