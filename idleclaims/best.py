@@ -11,8 +11,7 @@ from idleclaims.seating import Seating
 
 def best_deal(book):
     """The dealing that gives each pupil its first school in the last book."""
-    wishes, _, _ = last_book(book)
-    return tuple([(pupil, wish[0]) for pupil, wish in enumerate(wishes) if wish])
+    return firsts_in(last_book(book))
 
 
 def worst_deal(book):
@@ -36,3 +35,8 @@ def best_by_rises(book):
         rounds.append(struck)
         left = struck_book(left, struck)
     return (tuple(rounds), pupils_deal(left))
+
+
+def firsts_in(last):
+    """The best dealing of a book that is its own last book."""
+    return tuple([(pupil, wish[0]) for pupil, wish in enumerate(last[0]) if wish])
