@@ -4,7 +4,7 @@ from idleclaims.bookchecker import lets_book
 from idleclaims.checking import need
 from idleclaims.errors import InvalidRow, InvalidText
 from idleclaims.kinds import is_dealing
-from idleclaims.numerals import fields_of, is_numeral, pair_told
+from idleclaims.numerals import fields_of, is_numeral, pairs_told
 
 
 def book_lines(book):
@@ -43,15 +43,16 @@ def dealing_line(book, dealing):
 def read_dealing(book, text):
     """The dealing with this line."""
     need(isinstance(text, str), "text")
-    if text == "-":
-        return ()
-    pairs = [pair_told(field) for field in fields_of(text)]
-    if None in pairs:
-        raise InvalidText(0, pairs.index(None))
+    return dealing_told(book, text, 0)
+
+
+def dealing_told(book, text, ahead):
+    """The dealing that the text tells; so many fields stand ahead of it in its line."""
+    pairs = pairs_told(text, ahead)
     for row in range(len(pairs)):
-        if not is_dealing(book, tuple(pairs[:row + 1])):
-            raise InvalidRow(row)
-    return tuple(pairs)
+        if not is_dealing(book, pairs[:row + 1]):
+            raise InvalidRow(row + ahead)
+    return pairs
 
 
 def _line(head, listed):

@@ -1,5 +1,7 @@
 """Fields of lines, and the numerals and pairs that they tell."""
 
+from idleclaims.errors import InvalidText
+
 MOST_FIGURES = 60
 
 
@@ -20,3 +22,13 @@ def pair_told(field):
     if len(numerals) != 2 or not all(is_numeral(numeral) for numeral in numerals):
         return None
     return (int(numerals[0]), int(numerals[1]))
+
+
+def pairs_told(text, ahead):
+    """The pairs that the text tells, "-" for none; so many fields stand ahead of it in its line."""
+    if text == "-":
+        return ()
+    pairs = tuple([pair_told(field) for field in fields_of(text)])
+    if None in pairs:
+        raise InvalidText(0, pairs.index(None) + ahead)
+    return pairs

@@ -98,8 +98,8 @@ class LiveOffice:
         """Did the last event leave the set of the rightful dealings as it was?"""
         if not self.past:
             return True
-        before = self.past[len(self.past) - 1][1]
-        return before == self.book or same_rightful(before, self.book)
+        _, before, _ = self.past[len(self.past) - 1]
+        return is_quiet(before, self.book)
 
     def log(self):
         """The events not undone."""
@@ -115,6 +115,11 @@ class LiveOffice:
         if reason is not None:
             self.refusals += 1
             raise InvalidEvent(event, reason)
+
+
+def is_quiet(before, behind):
+    """Do the books ahead of and behind an event have the same rightful dealings?"""
+    return before == behind or same_rightful(before, behind)
 
 
 def _behind(book, waived, event):

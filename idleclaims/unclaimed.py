@@ -14,12 +14,7 @@ from idleclaims.walks import walk_of
 def at_once(book, dealing):
     """A plain dealing that holds a pair that claims against the dealing, or None."""
     need(is_dealing(book, dealing), "dealing")
-    claims = claims_in(book, dealing)
-    # The dealings of one walk have all pairs that are in plain dealings.
-    for plain in walk_of(book):
-        if any(pair in plain for pair in claims):
-            return plain
-    return None
+    return first_holding(book, claims_in(book, dealing))
 
 
 def open_with(book, pair):
@@ -38,6 +33,15 @@ def open_with(book, pair):
         last = schools_deal(book)
         return _led_or_none(last, fall_ring(book, last, pair))
     # A pair of the kind "cold" is loose.
+    return None
+
+
+def first_holding(book, pairs):
+    """The first dealing of the walk that holds one of these pairs; None if no plain dealing does."""
+    # The dealings of one walk have all pairs that are in plain dealings.
+    for plain in walk_of(book):
+        if any(pair in plain for pair in pairs):
+            return plain
     return None
 
 

@@ -189,7 +189,8 @@ class WastePapersTest(Case):
         book, plain = (((1, 0), (1,)), ((0,), (1, 0)), (1, 1)), ((0, 0), (1, 1))
         self.same(truth.rise_arrows(book, plain), ((0, 1),))
         self.same(lets_waste(book, plain, ("heights", (0, 10 ** 59))), False)
-        for heights in (None, 0, "", (), [0, 1], (0,), (0, 1, 2), (0, 0), (1, 0), (0, True), (-1, 0), (0, None), ("0", "1")):
+        wrong = (None, 0, "", (), [0, 1], (0,), (0, 1, 2), (0, 0), (1, 0), (0, True), (-1, 0), (0, None), ("0", "1"))
+        for heights in wrong:
             self.wrong(book, plain, ("heights", heights), "heights", 1)
         # Heights of the rise arrows that do not rise along each of them.
         self.wrong(FOUR, STILL, ("heights", (4, 4, 4, 1)), "heights", 1)

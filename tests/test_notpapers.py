@@ -56,8 +56,8 @@ class VerdictCase(Case):
         self.right(book, dealing, paper, stands)
 
     def hold_papers_of_all_dealings(self):
-        for book in samples.small_books()[::2] + samples.tiny_books()[::7] + samples.EDGES:
-            for dealing in truth.dealings(book)[::3] + truth.rightfuls(book):
+        for book in samples.small_books()[::3] + samples.tiny_books()[::7] + samples.EDGES:
+            for dealing in truth.dealings(book)[::7] + truth.rightfuls(book):
                 self.made(book, dealing, dealing in truth.rightfuls(book))
 
     def hold_papers_of_large_books(self):
@@ -66,7 +66,7 @@ class VerdictCase(Case):
             self.made(book, (), truth.pairs(book) == ())
             self.made(book, rightful[2], True)
             if book in turnbooks.TURNING:
-                for dealing in turnbooks.rightfuls(book):
+                for dealing in turnbooks.rightfuls(book)[::3]:
                     self.made(book, dealing, True)
                     self.made(book, dealing[1:], dealing == ())
 

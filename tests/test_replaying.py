@@ -5,10 +5,9 @@ from random import Random
 from idleclaims.errors import InvalidEvent
 from idleclaims.office import LiveOffice
 from idleclaims.replaying import replayed, stood_at
-from tests import samples, truth
+from tests import samples, test_office, truth
 from tests.offices import ByDealings, OfficeByWords
 from tests.support import Case
-from tests.test_office import ChanceTest
 
 LOG = (("waive", 3, 0), ("strike", 1, 0), ("pupil",))
 
@@ -26,7 +25,7 @@ class ReplayingTest(Case):
 
     def test_small_logs(self):
         random = Random(43)
-        chance = ChanceTest()
+        chance = test_office.ChanceTest()
         for book in samples.small_books()[::5]:
             words = OfficeByWords(book, ByDealings())
             for _ in range(8):

@@ -7,7 +7,9 @@ from types import GeneratorType
 from idleclaims.joining import down_from
 from idleclaims.rightfulclasses import Rightful
 from tests import samples, truth, turnbooks
+from tests.offices import ByAsking
 from tests.support import Case, no_dealings, unusable
+from tests.test_bestunder import struck_rows
 from tests.test_between import joined
 from tests.test_parameters_fourth import not_rightful
 
@@ -74,6 +76,15 @@ class RightfulTest(Case):
         self.tells(other, samples.ODD)
         self.same(list(generator), [samples.STILL])
         self.tells(one, samples.FOUR)
+
+    def test_large_books(self):
+        for book in samples.large_books():
+            whole = Rightful(book)
+            found = list(whole.each_rightful())
+            self.same([len(found), set(found)], [whole.how_many(), ByAsking().rightfuls(book)])
+            self.same(whole.down(whole.best())[-1], whole.worst())
+            self.same([whole.idle(), whole.objecting(whole.best())], [struck_rows(book), ()])
+        self.same(Rightful(samples.large_books()[1]).how_many(), 64)
 
     def test_nobody(self):
         for book in samples.EDGES[:4]:

@@ -85,7 +85,8 @@ class IteratedAtOnceTest(unittest.TestCase):
             "first(asking, range(3))", "return range(3)", "return zip(xs, ys)", "self.rows = enumerate(xs)",
             "rows = [range(3)]", "both = range(3)\n    first(both)", "both = range(3)\n    return both",
             "first(d.items())", "return d.keys()", "rows = zip(xs, ys)\n    return rows", "len(zip(xs, ys))",
-            "one = two = range(3)", "xs.extend(range(3))", "sorted(xs, key=range(3))", "views = d.values()\n    f(views)",
+            "one = two = range(3)", "xs.extend(range(3))", "sorted(xs, key=range(3))",
+            "views = d.values()\n    f(views)",
         )
         for text in wrong:
             self.assertNotEqual(wrong_rows(f"def f(self, xs, ys, d):\n    {text}\n"), [], text)
